@@ -212,12 +212,22 @@ func divTowardsNought(a, b Int) (Int, Int) {
 	return fromWords(a.negative() != b.negative(), q), fromWords(a.negative(), r)
 }
 
-// Gcd is the greatest number that divides both; 0 of 0 and 0.
+// Gcd is the greatest number that divides both; 0 of 0 and 0. Twos are shifted
+// away first: many numbers are over powers of two, and dividing those is slow.
 func Gcd(a, b Int) Int {
+	if a.Sign() == 0 || b.Sign() == 0 {
+		return a.Add(b).withoutSign()
+	}
+	twosOfA, twosOfB := uint(a.Twos()), uint(b.Twos())
+	a, b = a.halve(twosOfA), b.halve(twosOfB)
 	for b.Sign() != 0 {
 		_, rest := divTowardsNought(a, b)
 		a, b = b, rest
 	}
+	return a.withoutSign().double(min(twosOfA, twosOfB))
+}
+
+func (a Int) withoutSign() Int {
 	if a.negative() {
 		return a.Neg()
 	}
