@@ -49,13 +49,25 @@ func (p Pauli) Text(qubits int) string {
 	return string(text)
 }
 
-// Times is the product of two Paulis that commute. With each Y as a quarter of a turn
-// beside a Z and then an X, all Xs of the product are brought behind all Zs: where a Z
-// passes an X, the whole is turned by a half.
+// Times is the product of two Paulis that commute.
 func (p Pauli) Times(other Pauli) Pauli {
-	product := Pauli{X: p.X ^ other.X, Z: p.Z ^ other.Z, Minus: p.Minus != other.Minus}
-	quarters := p.ys() + other.ys() - product.ys() + 2*bits.OnesCount16(p.Z&other.X)
+	product, quarters := p.meet(other)
 	return product.turnedIf(quarters&2 != 0)
+}
+
+// TimesTurned is the product of two Paulis that don't commute, turned by a quarter: of
+// X and Z it is Y.
+func (p Pauli) TimesTurned(other Pauli) Pauli {
+	product, quarters := p.meet(other)
+	return product.turnedIf((quarters+1)&2 != 0)
+}
+
+// meet is the product of two Paulis but for so many quarters of a turn. With each Y as
+// a quarter of a turn beside a Z and then an X, all Xs of the product are brought behind
+// all Zs: where a Z passes an X, the whole is turned by a half.
+func (p Pauli) meet(other Pauli) (Pauli, int) {
+	product := Pauli{X: p.X ^ other.X, Z: p.Z ^ other.Z, Minus: p.Minus != other.Minus}
+	return product, p.ys() + other.ys() - product.ys() + 2*bits.OnesCount16(p.Z&other.X)
 }
 
 // ys is how many letters are Y.

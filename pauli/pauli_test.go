@@ -95,24 +95,30 @@ func product(a, b string) (string, int) {
 // third is the letter beside two others.
 func third(a, b byte) byte { return 'X' ^ 'Y' ^ 'Z' ^ a ^ b }
 
-// All pairs of two qubits that commute.
+// All pairs of two qubits: those that commute, and those that don't, by a quarter more.
 func TestProducts(t *testing.T) {
 	pairs := 0
 	for _, a := range texts(2) {
 		for _, b := range texts(2) {
 			letters, quarters := product(a, b)
+			what, times := "times", pauli.Pauli.Times
 			if quarters%2 == 1 {
-				continue
+				what, times = "turned, times", pauli.Pauli.TimesTurned
+				quarters = (quarters + 1) % 4
+			} else {
+				pairs++
 			}
-			pairs++
 			want := "+-"[quarters/2:quarters/2+1] + letters
-			if got := parsed(t, a).Times(parsed(t, b)).Text(2); got != want {
-				t.Errorf("%s times %s: %s, want %s", a, b, got, want)
+			if got := times(parsed(t, a), parsed(t, b)).Text(2); got != want {
+				t.Errorf("%s %s %s: %s, want %s", a, what, b, got, want)
 			}
 		}
 	}
 	if pairs != 544 {
 		t.Errorf("%d pairs commute, want 544", pairs)
+	}
+	if got := parsed(t, "+X").TimesTurned(parsed(t, "+Z")).Text(1); got != "+Y" {
+		t.Errorf("X turned, times Z: %s, want +Y", got)
 	}
 }
 
