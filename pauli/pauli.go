@@ -49,6 +49,20 @@ func (p Pauli) Text(qubits int) string {
 	return string(text)
 }
 
+// Commutes: do both together do the same, whichever of them is done first?
+func (p Pauli) Commutes(other Pauli) bool {
+	return bits.OnesCount16(p.X&other.Z^p.Z&other.X)%2 == 0
+}
+
+// Weight is on how many qubits the letter is not I.
+func (p Pauli) Weight() int { return bits.OnesCount16(p.X | p.Z) }
+
+// Letters is the product of two Paulis but for its sign, or for what it is turned by if
+// they don't commute: it has none.
+func (p Pauli) Letters(other Pauli) Pauli {
+	return Pauli{X: p.X ^ other.X, Z: p.Z ^ other.Z}
+}
+
 // Times is the product of two Paulis that commute.
 func (p Pauli) Times(other Pauli) Pauli {
 	product, quarters := p.meet(other)
@@ -66,7 +80,7 @@ func (p Pauli) TimesTurned(other Pauli) Pauli {
 // a quarter of a turn beside a Z and then an X, all Xs of the product are brought behind
 // all Zs: where a Z passes an X, the whole is turned by a half.
 func (p Pauli) meet(other Pauli) (Pauli, int) {
-	product := Pauli{X: p.X ^ other.X, Z: p.Z ^ other.Z, Minus: p.Minus != other.Minus}
+	product := p.Letters(other).turnedIf(p.Minus != other.Minus)
 	return product, p.ys() + other.ys() - product.ys() + 2*bits.OnesCount16(p.Z&other.X)
 }
 

@@ -122,6 +122,32 @@ func TestProducts(t *testing.T) {
 	}
 }
 
+// All pairs of two qubits: which commute, and their products but for what these are
+// turned by.
+func TestLettersOfProducts(t *testing.T) {
+	for _, a := range texts(2) {
+		for _, b := range texts(2) {
+			letters, quarters := product(a, b)
+			p, q := parsed(t, a), parsed(t, b)
+			if got := p.Letters(q).Text(2); got != "+"+letters {
+				t.Errorf("letters of %s times %s: %s, want +%s", a, b, got, letters)
+			}
+			// In the opposite order a product is turned by as many quarters the other way.
+			if got, want := p.Commutes(q), quarters%2 == 0; got != want {
+				t.Errorf("%s and %s commute: %v, want %v", a, b, got, want)
+			}
+		}
+	}
+}
+
+func TestWeights(t *testing.T) {
+	for text, want := range map[string]int{"+": 0, "-I": 0, "+X": 1, "-Y": 1, "+Z": 1, "+IXIYIZ": 3, "-XYZXYZXYZXYZ": 12, "+IIIIIIIIIIIZ": 1} {
+		if got := parsed(t, text).Weight(); got != want {
+			t.Errorf("weight of %s: %d, want %d", text, got, want)
+		}
+	}
+}
+
 // What gates make of letters.
 func TestGates(t *testing.T) {
 	on := []int{0}
