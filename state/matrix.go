@@ -1,6 +1,9 @@
 package state
 
-import "qloom/ring"
+import (
+	"qloom/ring"
+	"qloom/wave"
+)
 
 // matrix has as many columns as rows.
 type matrix [][]ring.Num
@@ -14,10 +17,10 @@ func square(size int) matrix {
 }
 
 // reduced is what a wave tells of the qubits in keep.
-func (w wave) reduced(keep []int) matrix {
+func reduced(w wave.Wave, keep []int) matrix {
 	places := among(keep)
 	out := square(len(places))
-	for rest := range w.states(0, set(keep...)) {
+	for rest := range w.States(0, wave.Set(keep...)) {
 		for i, x := range places {
 			for j, y := range places {
 				a, b := w[rest|x], w[rest|y]
@@ -36,7 +39,7 @@ func among(keep []int) []int {
 	out := []int{0}
 	for _, q := range keep {
 		for _, x := range out {
-			out = append(out, x|set(q))
+			out = append(out, x|wave.Set(q))
 		}
 	}
 	return out

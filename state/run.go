@@ -4,19 +4,20 @@ import (
 	"slices"
 
 	"qloom/api"
+	"qloom/wave"
 )
 
 // run is a run of a circuit that is under way.
 type run struct {
 	ops  []api.Op // the circuit's own: only read
 	at   int      // the operation that comes next
-	wave wave
+	wave wave.Wave
 	bits []int
 	tape []int // the outcomes that were taken
 }
 
 func start(c api.Circuit, in int) *run {
-	return &run{ops: c.Ops, wave: basis(c.Qubits, in), bits: make([]int, c.Bits)}
+	return &run{ops: c.Ops, wave: wave.Basis(c.Qubits, in), bits: make([]int, c.Bits)}
 }
 
 // clone is a run that stands where r does, and goes on by itself.
@@ -34,7 +35,7 @@ func (r *run) asks() bool {
 		if op.Kind == api.Measure || op.Kind == api.Reset {
 			return true
 		}
-		r.wave.do(op)
+		r.wave.Do(op)
 	}
 	return false
 }
@@ -54,20 +55,14 @@ func (r *run) meets(conditions []int) bool {
 }
 
 // can: can the outcome that is asked for be this one?
-func (r *run) can(outcome int) bool { return r.wave.has(set(r.ops[r.at].Q), outcome) }
+func (r *run) can(outcome int) bool { return r.wave.Can(r.ops[r.at].Q, outcome) }
 
 // take does the operation that asks for an outcome, with this one.
 func (r *run) take(outcome int) {
 	op := r.ops[r.at]
-	q := set(op.Q)
-	r.wave.drop(q, 1-outcome)
-	switch op.Kind {
-	case api.Measure:
+	r.wave.Take(op, outcome)
+	if op.Kind == api.Measure {
 		r.bits[op.Bit] = outcome
-	case api.Reset:
-		if outcome == 1 {
-			r.wave.exchange(0, q)
-		}
 	}
 	r.tape = append(r.tape, outcome)
 	r.at++

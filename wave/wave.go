@@ -1,4 +1,6 @@
-package state
+// Package wave has the amplitudes of all basis states, and what operations make
+// of them: see doc/04-state.md.
+package wave
 
 import (
 	"iter"
@@ -7,13 +9,13 @@ import (
 	"qloom/ring"
 )
 
-// wave has the amplitudes of all basis states; one that is 0 is nil. The
-// numbers are never written again, so that the branches of a run share them.
-type wave []*ring.Num
+// Wave has the amplitudes of all basis states; one that is 0 is nil. The
+// numbers are never written again, so that copies of a wave share them.
+type Wave []*ring.Num
 
-// basis is the wave of a basis state of that many qubits.
-func basis(qubits, x int) wave {
-	w := make(wave, 1<<qubits)
+// Basis is the wave of a basis state of that many qubits.
+func Basis(qubits, x int) Wave {
+	w := make(Wave, 1<<qubits)
 	w[x] = kept(ring.Root(0))
 	return w
 }
@@ -27,15 +29,15 @@ func kept(n ring.Num) *ring.Num {
 }
 
 // at is the amplitude of a basis state.
-func (w wave) at(x int) ring.Num {
+func (w Wave) at(x int) ring.Num {
 	if w[x] == nil {
 		return ring.Num{}
 	}
 	return *w[x]
 }
 
-// set is a set of qubits: bit q says whether qubit q is in it.
-func set(qubits ...int) int {
+// Set is a set of qubits: bit q says whether qubit q is in it.
+func Set(qubits ...int) int {
 	out := 0
 	for _, q := range qubits {
 		out |= 1 << q
@@ -43,9 +45,9 @@ func set(qubits ...int) int {
 	return out
 }
 
-// states ranges, in their order, over the basis states in which the qubits of
+// States ranges, in their order, over the basis states in which the qubits of
 // ones are 1 and those of noughts are 0.
-func (w wave) states(ones, noughts int) iter.Seq[int] {
+func (w Wave) States(ones, noughts int) iter.Seq[int] {
 	fixed := ones | noughts
 	return func(yield func(int) bool) {
 		// Where all qubits that stay as they are count as 1, adding 1 carries past them.
@@ -58,16 +60,16 @@ func (w wave) states(ones, noughts int) iter.Seq[int] {
 }
 
 // side ranges over the basis states in which the qubits of a set are all 0 or all 1.
-func (w wave) side(qubits, value int) iter.Seq[int] {
+func (w Wave) side(qubits, value int) iter.Seq[int] {
 	if value == 1 {
-		return w.states(qubits, 0)
+		return w.States(qubits, 0)
 	}
-	return w.states(0, qubits)
+	return w.States(0, qubits)
 }
 
-// do does a gate.
-func (w wave) do(op api.Op) {
-	controls, q := set(op.Ctl...), set(op.Q)
+// Do does a gate, whatever its conditions are.
+func (w Wave) Do(op api.Op) {
+	controls, q := Set(op.Ctl...), Set(op.Q)
 	switch op.Kind {
 	case api.Phase:
 		w.turn(0, op.K)
@@ -81,8 +83,8 @@ func (w wave) do(op api.Op) {
 }
 
 // turn turns the amplitudes by so many sixteenths where the qubits of ones are 1.
-func (w wave) turn(ones, sixteenths int) {
-	for x := range w.states(ones, 0) {
+func (w Wave) turn(ones, sixteenths int) {
+	for x := range w.States(ones, 0) {
 		if w[x] != nil {
 			w[x] = kept(w[x].Turn(sixteenths))
 		}
@@ -90,15 +92,15 @@ func (w wave) turn(ones, sixteenths int) {
 }
 
 // exchange exchanges q's 0 and 1 where the controls are 1.
-func (w wave) exchange(controls, q int) {
-	for x := range w.states(controls, q) {
+func (w Wave) exchange(controls, q int) {
+	for x := range w.States(controls, q) {
 		w[x], w[x|q] = w[x|q], w[x]
 	}
 }
 
 // mix does the Hadamard gate to q where the controls are 1.
-func (w wave) mix(controls, q int) {
-	for x := range w.states(controls, q) {
+func (w Wave) mix(controls, q int) {
+	for x := range w.States(controls, q) {
 		if w[x] == nil && w[x|q] == nil {
 			continue
 		}
@@ -107,9 +109,9 @@ func (w wave) mix(controls, q int) {
 	}
 }
 
-// has: is an amplitude not 0 where q has that value?
-func (w wave) has(q, value int) bool {
-	for x := range w.side(q, value) {
+// Can: can that outcome come of qubit q?
+func (w Wave) Can(q, outcome int) bool {
+	for x := range w.side(Set(q), outcome) {
 		if w[x] != nil {
 			return true
 		}
@@ -117,15 +119,24 @@ func (w wave) has(q, value int) bool {
 	return false
 }
 
+// Take does a measurement or a reset with that outcome, whatever its conditions are.
+func (w Wave) Take(op api.Op, outcome int) {
+	q := Set(op.Q)
+	w.drop(q, 1-outcome)
+	if op.Kind == api.Reset && outcome == 1 {
+		w.exchange(0, q)
+	}
+}
+
 // drop makes the amplitudes 0 where q has that value.
-func (w wave) drop(q, value int) {
+func (w Wave) drop(q, value int) {
 	for x := range w.side(q, value) {
 		w[x] = nil
 	}
 }
 
-// norm is the sum of the norms of all amplitudes.
-func (w wave) norm() ring.Num {
+// Norm is the sum of the norms of all amplitudes.
+func (w Wave) Norm() ring.Num {
 	var out ring.Num
 	for _, a := range w {
 		if a != nil {
@@ -135,8 +146,8 @@ func (w wave) norm() ring.Num {
 	return out
 }
 
-// texts are all amplitudes as they are written.
-func (w wave) texts() []string {
+// Texts are all amplitudes as they are written.
+func (w Wave) Texts() []string {
 	out := make([]string, len(w))
 	for x := range w {
 		out[x] = w.at(x).Text()
